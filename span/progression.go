@@ -21,13 +21,14 @@ func (p progression) normal() api.Range {
 	switch {
 	case p.low > p.high:
 		p = nothing()
-		return api.Range{Low: p.low, High: p.high, Stride: p.step}
 	case p.low == p.high:
-		return api.Range{Low: p.low, High: p.low, Stride: 1}
-	case p.down:
-		return api.Range{Low: p.low, High: p.high, Stride: -p.step}
+		p.step, p.down = 1, false
 	}
-	return api.Range{Low: p.low, High: p.high, Stride: p.step}
+	r := api.Range{Low: p.low, High: p.high, Stride: p.step}
+	if p.down {
+		r.Stride = -p.step
+	}
+	return r
 }
 
 // size returns the number of numbers of a right range: the ends of the empty one are such that it is 0.
