@@ -123,7 +123,8 @@ func Position(d api.Domain, index []int) (int, bool) {
 // All yields the positions and the indices in order; the second number of an index of one dimension is 0.
 func All(d api.Domain) iter.Seq2[int, [2]int] {
 	return func(yield func(int, [2]int) bool) {
-		if Check(d) != api.OK {
+		// Many numbers of the first dimension lead to nothing, if the second one has none.
+		if Size(d) == 0 {
 			return
 		}
 		// A dimension of the single number 0 stands for the one that is missing.
