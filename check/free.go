@@ -31,7 +31,7 @@ func Free(t api.Node, locals []string) []string {
 	return search.found
 }
 
-// search has the names that are wanted and were not found yet, and those that were found.
+// search has the names that are looked for, each with whether it was not found yet, and those that were found.
 type search struct {
 	wanted map[string]bool
 	found  []string
@@ -48,19 +48,20 @@ func (s *search) node(n api.Node, d *declared) {
 		case i < len(names) && k.Op == api.Name:
 			continue
 		case i == block:
-			s.node(k, d.with(names))
+			s.node(k, s.declare(d, names...))
 		default:
 			s.node(k, d)
 		}
 		if k.Op == api.Var {
-			d = &declared{k.Name, d}
+			d = s.declare(d, k)
 		}
 	}
 }
 
-func (d *declared) with(names []api.Node) *declared {
-	for _, n := range names {
-		if n.Op == api.Name {
+// declare returns a list with the names of a Var, or of a loop, in it: those that are looked for are enough.
+func (s *search) declare(d *declared, l ...api.Node) *declared {
+	for _, n := range l {
+		if _, wanted := s.wanted[n.Name]; wanted && (n.Op == api.Var || n.Op == api.Name) {
 			d = &declared{n.Name, d}
 		}
 	}

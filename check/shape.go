@@ -132,10 +132,8 @@ func isKid(letter byte, n api.Node) bool {
 		return n.Op == api.BlockOf
 	case 's':
 		return isStatement(n)
-	case 'i':
-		return n.Op == api.Intent
 	}
-	return false
+	return n.Op == api.Intent
 }
 
 func isExpr(n api.Node) bool      { return n.Op >= api.Int && n.Op <= api.Cond && n.Op != api.Str }

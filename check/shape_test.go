@@ -150,7 +150,7 @@ type sample struct{ *rand.Rand }
 func (r sample) pick(l ...string) string { return l[r.Intn(len(l))] }
 
 func (r sample) name() string {
-	return r.pick("", "a", "x1", "_y", "a__b", "for", "size", "int", "void", "?t", "t", "?int", "??t", "a b", "1a", "é", "-", "!", "+", "%", "==", "<=", "&&", "||", "min", "max", "=", "+=", "/=", "block", "cyclic", "hashed", "blockcyclic", "low", "domain", "readFE", "read", "isFull", "writeXF", "add", "exchange", "compareAndSwap", "domain1", "array2", "\x1f", "~ ", "a\x7f", strings.Repeat("n", 40), strings.Repeat("n", 41), "?"+strings.Repeat("n", 40), strings.Repeat("s", 200), strings.Repeat("s", 201))
+	return r.pick("", "a", "x1", "z0", "A9", "Zz", "a/", "a:", "@a", "a[", "a`", "a{", "_y", "a__b", "for", "size", "int", "void", "?t", "t", "?int", "??t", "a b", "1a", "é", "-", "!", "+", "%", "==", "<=", "&&", "||", "min", "max", "=", "+=", "/=", "block", "cyclic", "hashed", "blockcyclic", "low", "domain", "readFE", "read", "isFull", "writeXF", "add", "exchange", "compareAndSwap", "domain1", "array2", "\x1f", "~ ", "a\x7f", strings.Repeat("n", 40), strings.Repeat("n", 41), "?"+strings.Repeat("n", 40), strings.Repeat("s", 200), strings.Repeat("s", 201))
 }
 
 func (r sample) num() int {
@@ -284,6 +284,11 @@ func TestNodeOps(t *testing.T) {
 		{api.Node{Op: api.Var, Name: "v", Num: api.HasType, Kids: []api.Node{{Op: api.Type, Name: "void"}}}, api.ErrForm},
 		{api.Node{Op: api.Write, Kids: []api.Node{{Op: api.Str, Name: "\n"}}}, api.ErrForm},
 		{api.Node{Op: api.Write, Kids: []api.Node{{Op: api.Str, Num: 1}}}, api.ErrForm},
+		{api.Node{Op: api.Write, Kids: []api.Node{{Op: api.Str, Name: strings.Repeat("s", 200)}}}, api.OK},
+		{api.Node{Op: api.Write, Kids: []api.Node{{Op: api.Str, Name: strings.Repeat("s", 201)}}}, api.ErrForm},
+		{api.Node{Op: api.Write, Kids: []api.Node{{Op: api.Str, Name: " ~"}}}, api.OK},
+		{api.Node{Op: api.Write, Kids: []api.Node{{Op: api.Str, Name: "\x7f"}}}, api.ErrForm},
+		{api.Node{Op: api.Write, Kids: []api.Node{{Op: api.Str, Name: "\xff"}}}, api.ErrForm},
 		{api.Node{Op: api.Write, Kids: []api.Node{{Op: api.Str}, x, {Op: api.Str, Name: "a\"\\"}}}, api.OK},
 		{api.Node{Op: api.Write, Kids: []api.Node{{Op: api.Str, Kids: []api.Node{x}}}}, api.ErrForm},
 	} {

@@ -125,10 +125,13 @@ func (w *world) typeOf(n api.Node, s *scope) string {
 	return t
 }
 
-// find returns the local, or otherwise the global, that a name means.
+// find returns the local, or otherwise the global, that a name means. Globals stand in no scope, and see those ahead of them alone.
 func (w *world) find(name string, s *scope) Typed {
 	if l, ok := s.find(name); ok {
 		return l
+	}
+	if s != nil {
+		w.declareRight()
 	}
 	if g, ok := w.globals[name]; ok {
 		return g

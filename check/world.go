@@ -6,34 +6,37 @@ import (
 	"raddle/api"
 )
 
-// world has what the statements of a program see: its procedures, and the globals that were declared so far. At is the place of the statement that is looked at.
+// world has what the trees of a program see: its procedures, and the globals that were declared so far: the first ones, up to the one with the index next. At is the place of the statement that is looked at.
 type world struct {
 	p          api.Program
-	globals    map[string]Typed
+	shapes     shapes
 	operations map[operation]string
+	globals    map[string]Typed
+	next       int
 	at         Fault
 }
 
 func newWorld(p api.Program) *world {
-	return &world{p: p, globals: map[string]Typed{}, operations: operations()}
+	return &world{p: p, shapes: rules(), operations: operations(), globals: map[string]Typed{}}
 }
 
-// addRight declares the globals that have no error.
-func (w *world) addRight(shapes shapes) {
-	for _, g := range w.p.Globals {
-		if g.Op == api.Var && shapes.root(g) == api.OK {
-			attempt(func() { w.addGlobal(g) })
-		}
-	}
-}
-
-// addGlobal declares a global, which sees those ahead of it.
-func (w *world) addGlobal(g api.Node) {
+// declare declares the next global, which sees those ahead of it, and leaves with its error.
+func (w *world) declare() {
+	g := w.p.Globals[w.next]
 	t := w.variable(g, nil)
 	if _, twice := w.globals[g.Name]; twice {
 		panic(stop(api.ErrDuplicate))
 	}
 	w.globals[g.Name] = t
+}
+
+// declareRight declares all globals that have no error. Most expressions use none, and need not wait for it.
+func (w *world) declareRight() {
+	for ; w.next < len(w.p.Globals); w.next++ {
+		if g := w.p.Globals[w.next]; g.Op == api.Var && w.shapes.root(g) == api.OK {
+			attempt(w.declare)
+		}
+	}
 }
 
 // variable returns what a Var declares, and leaves with its error.
@@ -93,9 +96,9 @@ func arrayOver(domain string) string {
 
 // program leaves with the first fault of a program of the right shape.
 func (w *world) program() {
-	for i, g := range w.p.Globals {
-		w.at = Fault{Proc: -1, Path: []int{i}}
-		w.addGlobal(g)
+	for ; w.next < len(w.p.Globals); w.next++ {
+		w.at = Fault{Proc: -1, Path: []int{w.next}}
+		w.declare()
 	}
 	for i := range w.p.Procs {
 		w.procedure(i)

@@ -62,34 +62,36 @@ proc f(type t, type u) { }
 proc f(param b: bool, x: int) where b { }
 proc f(x: int, param n: int) where x > 1 { }
 proc f(x: t): u { }
+proc f(param n: int) where n { }
 `
 
 // TestCandidates asks why each of many procedures does not take arguments, and for their ranks.
 func TestCandidates(t *testing.T) {
 	p := program(t, candidates)
-	indices := []int{0, 1, 2, 3, 5, 6, 7, 8, 9, 10, 11, 12, 13, 14}
-	ranks := []int{1, 3, 5, 4, 3, 2, 2, 3, 5, 1, 5, 2, 2, 3}
+	indices := []int{0, 1, 2, 3, 5, 6, 7, 8, 9, 10, 11, 12, 13, 14, 15}
+	ranks := []int{1, 3, 5, 4, 3, 2, 2, 3, 5, 1, 5, 2, 2, 3, 2}
 	const count, kind, unknown, where = generic.WhyCount, generic.WhyType, generic.WhyParam, generic.WhyWhere
 	for i, c := range []struct {
 		l   []generic.Argument
 		why []int
 	}{
-		{nil, slices.Repeat([]int{count}, 14)},
-		{[]generic.Argument{of("int")}, []int{0, 0, count, count, unknown, unknown, unknown, kind, count, kind, count, count, count, 0}},
-		{[]generic.Argument{number(2)}, []int{0, 0, count, count, 0, where, 0, kind, count, kind, count, count, count, 0}},
-		{[]generic.Argument{number(3)}, []int{0, 0, count, count, 0, 0, 0, kind, count, kind, count, count, count, 0}},
-		{[]generic.Argument{truth(1)}, []int{kind, 0, count, count, kind, kind, 0, kind, count, kind, count, count, count, 0}},
-		{[]generic.Argument{of("range")}, []int{kind, 0, count, count, kind, kind, unknown, kind, count, 0, count, count, count, 0}},
-		{[]generic.Argument{of("void")}, []int{kind, kind, count, count, kind, kind, kind, kind, count, kind, count, count, count, kind}},
-		{[]generic.Argument{typed("int")}, []int{kind, kind, count, count, kind, kind, kind, 0, count, kind, count, count, count, kind}},
-		{[]generic.Argument{of("int"), of("int")}, []int{count, count, 0, 0, count, count, count, count, kind, count, kind, kind, unknown, count}},
-		{[]generic.Argument{of("int"), of("bool")}, []int{count, count, kind, kind, count, count, count, count, kind, count, kind, kind, kind, count}},
-		{[]generic.Argument{typed("int"), of("int")}, []int{count, count, kind, kind, count, count, count, count, 0, count, kind, kind, kind, count}},
-		{[]generic.Argument{typed("bool"), of("int")}, []int{count, count, kind, kind, count, count, count, count, kind, count, kind, kind, kind, count}},
-		{[]generic.Argument{typed("bool"), typed("int")}, []int{count, count, kind, kind, count, count, count, count, kind, count, 0, kind, kind, count}},
-		{[]generic.Argument{truth(1), of("int")}, []int{count, count, kind, kind, count, count, count, count, kind, count, kind, 0, kind, count}},
-		{[]generic.Argument{truth(0), number(1)}, []int{count, count, kind, kind, count, count, count, count, kind, count, kind, where, kind, count}},
-		{[]generic.Argument{number(5), number(1)}, []int{count, count, 0, 0, count, count, count, count, kind, count, kind, kind, where, count}},
+		{nil, slices.Repeat([]int{count}, 15)},
+		{[]generic.Argument{of("int")}, []int{0, 0, count, count, unknown, unknown, unknown, kind, count, kind, count, count, count, 0, unknown}},
+		{[]generic.Argument{number(2)}, []int{0, 0, count, count, 0, where, 0, kind, count, kind, count, count, count, 0, where}},
+		{[]generic.Argument{number(3)}, []int{0, 0, count, count, 0, 0, 0, kind, count, kind, count, count, count, 0, where}},
+		{[]generic.Argument{number(1)}, []int{0, 0, count, count, 0, where, 0, kind, count, kind, count, count, count, 0, where}},
+		{[]generic.Argument{truth(1)}, []int{kind, 0, count, count, kind, kind, 0, kind, count, kind, count, count, count, 0, kind}},
+		{[]generic.Argument{of("range")}, []int{kind, 0, count, count, kind, kind, unknown, kind, count, 0, count, count, count, 0, kind}},
+		{[]generic.Argument{of("void")}, []int{kind, kind, count, count, kind, kind, kind, kind, count, kind, count, count, count, kind, kind}},
+		{[]generic.Argument{typed("int")}, []int{kind, kind, count, count, kind, kind, kind, 0, count, kind, count, count, count, kind, kind}},
+		{[]generic.Argument{of("int"), of("int")}, []int{count, count, 0, 0, count, count, count, count, kind, count, kind, kind, unknown, count, count}},
+		{[]generic.Argument{of("int"), of("bool")}, []int{count, count, kind, kind, count, count, count, count, kind, count, kind, kind, kind, count, count}},
+		{[]generic.Argument{typed("int"), of("int")}, []int{count, count, kind, kind, count, count, count, count, 0, count, kind, kind, kind, count, count}},
+		{[]generic.Argument{typed("bool"), of("int")}, []int{count, count, kind, kind, count, count, count, count, kind, count, kind, kind, kind, count, count}},
+		{[]generic.Argument{typed("bool"), typed("int")}, []int{count, count, kind, kind, count, count, count, count, kind, count, 0, kind, kind, count, count}},
+		{[]generic.Argument{truth(1), of("int")}, []int{count, count, kind, kind, count, count, count, count, kind, count, kind, 0, kind, count, count}},
+		{[]generic.Argument{truth(0), number(1)}, []int{count, count, kind, kind, count, count, count, count, kind, count, kind, where, kind, count, count}},
+		{[]generic.Argument{number(5), number(1)}, []int{count, count, 0, 0, count, count, count, count, kind, count, kind, kind, where, count, count}},
 	} {
 		l, e := generic.Candidates(p, "f", c.l)
 		if e != api.OK || len(l) != len(indices) {

@@ -58,7 +58,8 @@ func (m *maker) need(proc int, l []Argument) string {
 	m.queue = append(m.queue, func() {
 		body, e := param.Block(typedBody(f, types), constants(f, l))
 		must(e)
-		m.made.Procs[at].Body = m.resolveAll(body, formals(m.made.Procs[at]))
+		body = m.resolveAll(body, formals(m.made.Procs[at]))
+		m.made.Procs[at].Body = body
 	})
 	return name
 }

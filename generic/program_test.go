@@ -133,6 +133,7 @@ func TestProgramErrors(t *testing.T) {
 		"proc main() { f(1); } proc f(x: ?t) { } proc f__1_int() { }":                      api.ErrDuplicate,
 		"proc main() { f(1); } proc f(x: int) { } proc f(x: bool) { } proc f__2() { }":     api.OK,
 		"proc main() { f(1); } proc f(x: int) { } proc f(x: bool) { } proc f__1() { }":     api.ErrDuplicate,
+		"proc f__2_int() { } proc main() { f(1); } proc f(x: ?t) { }":                      api.ErrDuplicate,
 		"proc main() { f(0); } proc f(param n: int) { f(n + 1); }":                         generic.ErrInstances,
 		"proc main() { f(true); } proc f(x: ?t) { write(g(x)); } proc g(x: int): int { }":  generic.ErrNone,
 		"proc main() { var x = f(); } proc f() { }":                                        api.OK,

@@ -58,6 +58,8 @@ func TestCheck(t *testing.T) {
 		{vars(own0, own1n, borrow1n), one(do(newOp, own0), do(load, borrow1n, own0, 1), do(take, own1n, own0, 0), stmt{Op: test, A: borrow1n}), nil, api.OK},
 		{vars(own0, borrow0n, borrow1n), one(do(newOp, own0), do(load, borrow0n, own0, 3), stmt{Op: test, A: borrow0n, Kids: one(do(load, borrow1n, borrow0n, 0), do(newOp, own0), stmt{Op: test, A: borrow1n})}), []int{2, 2}, lifetime.ErrDead},
 		{vars(own0, borrow0n, borrow1n, own0n), one(do(newOp, own0), do(newOp, own0n), do(load, borrow0n, own0, 3), stmt{Op: test, A: borrow0n, Kids: one(do(load, borrow1n, borrow0n, 0), do(store, own0, own0n, 3), stmt{Op: test, A: borrow1n})}), []int{3, 2}, lifetime.ErrDead},
+		{vars(own0n, borrow0n, own0, own1n), one(do(newOp, own0n), do(borrow, borrow0n, own0n), do(newOp, own0), do(take, own1n, own0, 0), do(use, borrow0n)), nil, api.OK},
+		{vars(own0n, borrow0n, own0, own1n), one(do(newOp, own0n), do(borrow, borrow0n, own0n), do(newOp, own0), do(store, own0, own1n, 0), do(use, borrow0n)), nil, api.OK},
 		{vars(own0, own1), one(do(store, own0, own1, 0)), []int{0}, lifetime.ErrNil},
 		{vars(own0, own1, own1n), one(do(newOp, own0), do(newOp, own1), do(store, own0, own1, 0), do(store, own0, own1, 0)), []int{3}, lifetime.ErrMoved},
 		{vars(own0, own1n), one(do(newOp, own0), do(store, own0, own1n, 0)), nil, api.OK},
@@ -98,6 +100,18 @@ func TestCheck(t *testing.T) {
 	}
 }
 
+// TestLastField asks for what hangs on the last field of the last class.
+func TestLastField(t *testing.T) {
+	p := lifetime.Program{Classes: make([][]lifetime.Field, 8), Vars: []lifetime.Var{{Kind: lifetime.Owned, Class: 7}, {Kind: lifetime.Borrowed, Class: 7, Nilable: true}, {Kind: lifetime.Owned, Class: 7}}}
+	p.Classes[7] = slices.Repeat([]lifetime.Field{{Kind: lifetime.Owned, Class: 7}}, 8)
+	for f, want := range map[int]api.Errno{7: lifetime.ErrDead, 6: api.OK} {
+		p.Body = in([]stmt{do(lifetime.New, 0), do(lifetime.New, 2), do(lifetime.Load, 1, 0, 7), do(lifetime.Store, 0, 2, f), do(lifetime.Test, 1)}, 0, 1, 2)
+		if path, e := lifetime.Check(p); e != want {
+			t.Errorf("the field %d: Check = %v, %v, want %v", f, path, e, want)
+		}
+	}
+}
+
 // TestElide asks which Copies become Moves.
 func TestElide(t *testing.T) {
 	const newOp, move, copyOp, use = lifetime.New, lifetime.Move, lifetime.Copy, lifetime.Use
@@ -111,6 +125,7 @@ func TestElide(t *testing.T) {
 		{[]stmt{do(newOp, shared0), do(copyOp, shared0n, shared0), do(copyOp, shared0n, shared0)}, []stmt{do(newOp, shared0), do(copyOp, shared0n, shared0), do(move, shared0n, shared0)}, 1},
 		{[]stmt{do(newOp, shared0), {Op: lifetime.Either, Kids: []stmt{do(copyOp, shared0n, shared0)}, Else: []stmt{do(use, shared0)}}}, []stmt{do(newOp, shared0), {Op: lifetime.Either, Kids: []stmt{do(move, shared0n, shared0)}, Else: []stmt{do(use, shared0)}}}, 1},
 		{[]stmt{do(newOp, shared0), {Op: lifetime.Loop, Kids: []stmt{do(copyOp, shared0n, shared0)}}}, []stmt{do(newOp, shared0), {Op: lifetime.Loop, Kids: []stmt{do(copyOp, shared0n, shared0)}}}, 0},
+		{[]stmt{do(newOp, shared0), {Op: lifetime.Test, A: shared0, Else: []stmt{do(copyOp, shared0n, shared0)}}}, []stmt{do(newOp, shared0), {Op: lifetime.Test, A: shared0, Else: []stmt{do(move, shared0n, shared0)}}}, 1},
 		{[]stmt{do(newOp, raw0), do(copyOp, raw0n, raw0)}, []stmt{do(newOp, raw0), do(copyOp, raw0n, raw0)}, 0},
 		{[]stmt{do(newOp, own0), do(lifetime.Borrow, borrow0, own0), do(copyOp, borrow0n, borrow0)}, []stmt{do(newOp, own0), do(lifetime.Borrow, borrow0, own0), do(copyOp, borrow0n, borrow0)}, 0},
 	} {

@@ -50,7 +50,6 @@ func (r *runner) step(s Stmt) {
 	r.result.Steps++
 	switch x := action(s).(type) {
 	case scoping:
-		r.vars[x.a] = variable{state: unset}
 		if r.p.Vars[x.a].Nilable {
 			r.vars[x.a] = reference(0)
 		}

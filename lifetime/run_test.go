@@ -56,6 +56,7 @@ func TestRun(t *testing.T) {
 		{in(one(do(newOp, own0), do(borrow, borrow0, own0), do(store, own0, own0, 3), do(use, borrow0)), own0, borrow0), nil, lifetime.Result{Steps: 6, Uses: []int{1}, Made: 1, Left: 1}},
 		{in(one(do(newOp, own0), do(borrow, borrow0, own0), do(store, own0, own0, 3), do(take, own0n, borrow0, 3), do(use, own0n)), own0, borrow0, own0n), nil, lifetime.Result{Steps: 8, Uses: []int{1}, Deleted: []int{1}, Made: 1}},
 		{in(one(do(newOp, own0n), do(newOp, own0), do(store, own0n, own0, 3), do(take, own0n, own0n, 3), do(use, own0n)), own0, own0n), nil, lifetime.Result{Steps: 7, Uses: []int{2}, Deleted: []int{1, 2}, Made: 2}},
+		{in(one(do(newOp, own0), do(borrow, borrow0, own0), do(store, own0, own0, 3), do(newOp, own0n), do(store, borrow0, own0n, 3), do(use, borrow0)), own0, own0n, borrow0), nil, lifetime.Result{End: lifetime.ErrDead, Steps: 9, Deleted: []int{1}, Made: 2, Left: 1}},
 		// unmanaged ones
 		{in(one(do(newOp, raw0), do(copyOp, raw0n, raw0), do(free, raw0), do(use, raw0n)), raw0, raw0n), nil, lifetime.Result{End: lifetime.ErrDead, Steps: 6, Deleted: []int{1}, Made: 1}},
 		{in(one(do(newOp, raw0), do(free, raw0), do(free, raw0)), raw0), nil, lifetime.Result{End: lifetime.ErrDead, Steps: 4, Deleted: []int{1}, Made: 1}},

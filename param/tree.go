@@ -127,24 +127,24 @@ func (v *evaluator) part(e api.Node) part {
 		return part{short: e, right: true}
 	}
 	var parts []part
-	bare, right := e, true
-	bare.Kids = rebuilt(e.Kids, true, func(_ int, k api.Node, _ bool) (api.Node, bool) {
+	bare, whole := e, part{short: e, right: true}
+	bare.Kids, whole.short.Kids = nil, nil
+	for _, k := range e.Kids {
 		p := v.part(k)
 		parts = append(parts, p)
-		right = right && p.right
+		whole.short.Kids = append(whole.short.Kids, p.short)
+		whole.right = whole.right && p.right
 		if isExpr(k) {
 			k = api.Node{Op: api.Int}
 		}
-		return k, true
-	})
-	whole := part{short: e, right: right && check.Node(bare) == api.OK}
+		bare.Kids = append(bare.Kids, k)
+	}
+	whole.right = whole.right && check.Node(bare) == api.OK
 	if whole.right {
 		whole.value = v.operate(e, func(i int) *value { return parts[i].value })
 	}
 	if whole.value.stands() {
 		whole.short = whole.value.node()
-		return whole
 	}
-	whole.short.Kids = rebuilt(e.Kids, true, func(i int, _ api.Node, _ bool) (api.Node, bool) { return parts[i].short, true })
 	return whole
 }
