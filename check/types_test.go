@@ -162,6 +162,12 @@ func TestNames(t *testing.T) {
 			t.Errorf("TypeOf(%s) = %q, %v, want ErrMissing", name, got, e)
 		}
 	}
+	untyped := []check.Typed{{Name: "u"}}
+	for _, text := range []string{"1 - u", "1..u", "{1..2, u}", "if true then u else u"} {
+		if got, e := check.TypeOf(p, expr(t, text), untyped); got != "" || e != api.ErrType {
+			t.Errorf("%s with a local of no type: %q, %v", text, got, e)
+		}
+	}
 	if got, e := check.TypeOf(p, expr(t, "b == true"), nil); got != "bool" || e != api.OK {
 		t.Errorf("b without locals: %q, %v", got, e)
 	}

@@ -8,12 +8,13 @@ import (
 	"raddle/param"
 )
 
-// maker makes the instances that a program without params needs: made has its globals, and the instances in the order in which they were needed, found has their indices by names, and queue makes the bodies that are still missing.
+// maker makes the instances that a program without params needs: made has its globals, and the instances in the order in which they were needed, found has their indices by names, globals has the types of the globals, and queue makes the bodies that are still missing.
 type maker struct {
-	p     api.Program
-	made  api.Program
-	found map[string]int
-	queue []func()
+	p       api.Program
+	made    api.Program
+	found   map[string]int
+	globals []check.Typed
+	queue   []func()
 }
 
 func (m *maker) program() {
@@ -30,6 +31,7 @@ func (m *maker) program() {
 		m.made.Globals[i] = g
 		m.variableType(g, nil)
 	}
+	m.globals = globalTypes(m.made)
 	for len(m.queue) > 0 {
 		work := m.queue[0]
 		m.queue = m.queue[1:]
@@ -58,10 +60,22 @@ func (m *maker) need(proc int, l []Argument) string {
 	m.queue = append(m.queue, func() {
 		body, e := param.Block(typedBody(f, types), constants(f, l))
 		must(e)
-		body = m.resolveAll(body, formals(m.made.Procs[at]))
+		body = m.resolveAll(body, slices.Concat(m.globals, formals(m.made.Procs[at])))
 		m.made.Procs[at].Body = body
 	})
 	return name
+}
+
+// globalTypes returns the globals of a program as locals that all others hide, so that their types are found just once.
+func globalTypes(p api.Program) []check.Typed {
+	var l []check.Typed
+	for _, g := range p.Globals {
+		t, e := check.TypeOf(p, api.Node{Op: api.Name, Name: g.Name}, nil)
+		if e == api.OK {
+			l = append(l, check.Typed{Name: g.Name, Type: t})
+		}
+	}
+	return l
 }
 
 // head returns an instance without its body.
