@@ -142,10 +142,10 @@ func numbersOf(fields string, count int) (l []int, behind string, ok bool) {
 	return l, fields, count >= 0
 }
 
-// numberOf reads also numbers that are written otherwise than in texts of code, such as +1 and 01: the whole text tells.
+// numberOf reads also numbers whose digits are others than in texts of code, such as 01 and -0: the whole text tells. Atoi alone would take a plus sign, which is no digit.
 func numberOf(field string) (int, bool) {
 	n, e := strconv.Atoi(field)
-	return n, e == nil
+	return n, e == nil && field[0] != '+'
 }
 
 // unquoted returns what stands between quotes.

@@ -195,6 +195,23 @@ func TestReadErrors(t *testing.T) {
 		{"globals 1 2\n", 1, lower.ErrLine},
 		{"globals 1\r\n", 1, lower.ErrLine},
 		{"globals 99999999999999999999\n", 1, lower.ErrLine},
+		{"globals -\n", 1, lower.ErrLine},
+		// a plus sign is no digit, also where the code would have an error
+		{"globals +\n", 1, lower.ErrLine},
+		{"globals +1\n", 1, lower.ErrLine},
+		{"globals +0\nbody a 3 0\n" + leave, 1, lower.ErrLine},
+		{"globals +01\nbody a 3 0\n" + leave, 1, lower.ErrLine},
+		{"globals ++1\nbody a 3 0\n" + leave, 1, lower.ErrLine},
+		{"globals +-1\nbody a 3 0\n" + leave, 1, lower.ErrLine},
+		{"globals -+1\nbody a 3 0\n" + leave, 1, lower.ErrLine},
+		{"globals 1+\nbody a 3 0\n" + leave, 1, lower.ErrLine},
+		{"globals +1\nbody a +3 0\n" + leave, 1, lower.ErrLine},
+		{"globals -1\nbody a +3 0\n" + leave, 2, lower.ErrLine},
+		{"globals 1\nbody a 3 +0\n" + leave, 2, lower.ErrLine},
+		{"globals 1\nbody 1 3 0\n  return -1 +0 0 0 0 \"\"\n", 3, lower.ErrLine},
+		{head + "  write 0 0 0 0 +0 \"+1\"\n" + leave, 3, lower.ErrLine},
+		{head + "  write 0 0 0 0 1 +0 \"\\0\"\n" + leave, 3, lower.ErrLine},
+		{head + "  write 0 0 0 0 0 \"+1\"\n" + leave, 0, api.OK},
 		{"body a 0 0\n" + leave, 1, lower.ErrLine},
 		{leave, 1, lower.ErrLine},
 		{"globals 1\n" + leave, 2, lower.ErrLine},
@@ -252,7 +269,6 @@ func TestReadErrors(t *testing.T) {
 		// its text is another one
 		{head + "  write 0 0 0 0 1 0 \"\x00\"\n" + leave, 0, lower.ErrLine},
 		{"globals 01\nbody a 3 0\n" + leave, 0, lower.ErrLine},
-		{"globals +1\nbody a 3 0\n" + leave, 0, lower.ErrLine},
 		{"globals -0\nbody a 3 0\n" + leave, 0, lower.ErrLine},
 		{head + "  set 0 -07 0 0 0 \"\"\n" + leave, 0, lower.ErrLine},
 	} {
@@ -261,6 +277,41 @@ func TestReadErrors(t *testing.T) {
 			t.Errorf("Read(%q) = %v, %d, %v, want %d, %v", c.text, got, line, e, c.line, c.want)
 		}
 	}
+}
+
+// TestReadPlus puts a plus sign ahead of each number of texts, in turn.
+func TestReadPlus(t *testing.T) {
+	r := random{rand.New(rand.NewSource(19))}
+	tried := 0
+	for range 300 {
+		s, _ := lower.Text(r.code())
+		for _, at := range numbersIn(s) {
+			changed, line := s[:at]+"+"+s[at:], 1+strings.Count(s[:at], "\n")
+			got, n, e := lower.Read(changed)
+			if n != line || e != lower.ErrLine || !same(got, api.Code{}) {
+				t.Fatalf("Read(%q) = %v, %d, %v, want %d, %v", changed, got, n, e, line, lower.ErrLine)
+			}
+			tried++
+		}
+	}
+	if tried < 300*10 {
+		t.Errorf("only %d numbers", tried)
+	}
+}
+
+// numbersIn returns where the numbers of a text of code begin; between quotes there are none.
+func numbersIn(text string) (l []int) {
+	begin := 0
+	for _, line := range strings.SplitAfter(text, "\n") {
+		fields, _, _ := strings.Cut(line, "\"")
+		for at := range fields {
+			if at > 0 && fields[at-1] == ' ' && strings.Contains("-0123456789", fields[at:at+1]) {
+				l = append(l, begin+at)
+			}
+		}
+		begin += len(line)
+	}
+	return l
 }
 
 // TestReadChanged asks that a changed text is no text, or that of other code.
