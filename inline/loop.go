@@ -15,9 +15,12 @@ func isObject(kind string) bool {
 // through returns what a loop of the right shape goes through.
 func through(loop api.Node) api.Node { return loop.Kids[loop.Num] }
 
-// iterator returns the iterator that a statement of the right shape is a loop over; such a loop has one name.
+// block returns the block of a loop of the right shape.
+func block(loop api.Node) api.Node { return loop.Kids[loop.Num+1] }
+
+// iterator returns the iterator that a statement of the right shape is a loop over, however many names it has: with two it is an error of a program, but not of Loop.
 func iterator(p api.Program, n api.Node) (api.Proc, bool) {
-	if n.Op != api.For || n.Num != 1 || through(n).Op != api.Call {
+	if n.Op != api.For || through(n).Op != api.Call {
 		return api.Proc{}, false
 	}
 	at := check.Find(p, through(n).Name)
@@ -50,7 +53,7 @@ func inlinedSize(f api.Proc, loop api.Node) int {
 	}
 	for n := range nodes(f.Body) {
 		if size++; n.Op == api.Yield {
-			size += aroundYield + count(loop.Kids[2])
+			size += aroundYield + count(block(loop))
 		}
 	}
 	return size
@@ -73,7 +76,7 @@ func inlined(f api.Proc, loop api.Node, number int) api.Node {
 		rename: func(name string) string { return name + suffix },
 		yield: func(n api.Node) api.Node {
 			element := value(loop.Kids[0].Name, true, n.Kids[0])
-			return api.Node{Op: api.BlockOf, Kids: []api.Node{element, copied(loop.Kids[2])}}
+			return api.Node{Op: api.BlockOf, Kids: []api.Node{element, copied(block(loop))}}
 		},
 	}
 	made.Kids = append(made.Kids, r.tree(api.Node{Op: api.BlockOf, Kids: f.Body}, formals))

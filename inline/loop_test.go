@@ -40,6 +40,17 @@ func TestLoop(t *testing.T) {
 		// a loop over an iterator in the body stays
 		{two + "iter more(n: int): int { for i in two(n) { yield i; for j in two(i) { yield j; } } }", "for i in more(1) { }", 1,
 			"{ const n__i1 = 1; { for i__i1 in two(n__i1) { { const i = i__i1; { } } for j__i1 in two(i__i1) { { const i = j__i1; { } } } } } }"},
+		// of two names the first one is the loop's Name
+		{two, "for (i, j) in two(5) { write(i, j); }", 1,
+			"{ const n__i1 = 5; { { const i = n__i1; { write(i, j); } } { const i = n__i1 + 1; { write(i, j); } } } }"},
+		{"iter one(n: int): int { yield n; }", "for (i, j) in one(5) { }", 1,
+			"{ const n__i1 = 5; { { const i = n__i1; { } } } }"},
+		{"iter one(n: int): int { yield n; }", "for (n, n) in one(n) { write(n); }", 2,
+			"{ const n__i2 = n; { { const n = n__i2; { write(n); } } } }"},
+		{"iter all(a: array(1)): bool { for i in a { yield i > 0; } }", "for (a, b) in all(x) { for a in two(b) { write(a, b); } }", 3,
+			"{ { for i__i3 in x { { const a = i__i3 > 0; { for a in two(b) { write(a, b); } } } } } }"},
+		{"iter none(): int { }", "for (i, j) in none() { write(i); }", 0,
+			"{ { } }"},
 		// globals, and what the procedure around declares
 		{"var g = 1; iter it(): int { g += 1; yield g; begin { g = 2; } forall j in 1..2 { write(j, g); } }", "for g in it() { g = 3; }", 1,
 			"{ { g += 1; { const g = g; { g = 3; } } begin { g = 2; } forall j__i1 in 1..2 { write(j__i1, g); } } }"},
@@ -97,8 +108,9 @@ func TestLoopOwn(t *testing.T) {
 func writes(t *testing.T, head string, numbers int) api.Node {
 	t.Helper()
 	n := statement(t, head+" { write(); }")
+	write := &n.Kids[len(n.Kids)-1].Kids[0]
 	for range numbers {
-		n.Kids[2].Kids[0].Kids = append(n.Kids[2].Kids[0].Kids, api.Node{Op: api.Int, Num: 1})
+		write.Kids = append(write.Kids, api.Node{Op: api.Int, Num: 1})
 	}
 	return n
 }
@@ -126,6 +138,9 @@ func TestLoopErrors(t *testing.T) {
 		{good, deep, api.ErrDepth},
 		{good, writes(t, "for i in two(5)", 4000), api.ErrCount},
 		{good, api.Node{Op: api.For, Num: 1, Kids: twoNames.Kids}, api.ErrForm},
+		{good, api.Node{Op: api.For, Num: 2, Kids: twoNames.Kids[1:]}, api.ErrForm},
+		{good, api.Node{Op: api.For, Num: 3, Kids: append(twoNames.Kids[:1:1], twoNames.Kids...)}, api.ErrForm},
+		{good, api.Node{Op: api.For, Num: 0, Kids: twoNames.Kids[2:]}, api.ErrForm},
 		{good, statement(t, "write(1);"), api.ErrForm},
 		{good, statement(t, "{ for i in two(5) { } }"), api.ErrForm},
 		{good, statement(t, "for i in 1..2 { }"), api.ErrForm},
@@ -133,7 +148,17 @@ func TestLoopErrors(t *testing.T) {
 		{good, statement(t, "for i in none(2) { }"), api.ErrForm},
 		{good, statement(t, "coforall i in two(2) { }"), api.ErrForm},
 		{good, statement(t, "forall i in two(2) { }"), api.ErrForm},
-		{good, twoNames, api.ErrForm},
+		{good, twoNames, api.OK},
+		{bad, twoNames, check.ErrMain},
+		{good, statement(t, "for (i, j) in 1..2 { }"), api.ErrForm},
+		{good, statement(t, "for (i, j) in f(2) { }"), api.ErrForm},
+		{good, statement(t, "for (i, j) in none(2) { }"), api.ErrForm},
+		{good, statement(t, "coforall (i, j) in two(2) { }"), api.ErrForm},
+		{good, statement(t, "forall (i, j) in two(2) { }"), api.ErrForm},
+		{good, statement(t, "for (i, j) in two() { }"), api.ErrCount},
+		{good, statement(t, "for (i, j) in all(1) { }"), api.ErrCount},
+		{good, statement(t, "for (i, j) in all(1, 2) { }"), api.ErrArgument},
+		{good, statement(t, "for (i, j) in all(x, 2) { }"), api.OK},
 		{good, api.Node{Op: api.Int, Num: 1}, api.ErrForm},
 		{good, statement(t, "for i in two() { }"), api.ErrCount},
 		{good, statement(t, "for i in two(1, 2) { }"), api.ErrCount},
@@ -149,6 +174,8 @@ func TestLoopErrors(t *testing.T) {
 		// 4 nodes for all, and for the two Yields 5 and 7, and the numbers
 		{good, writes(t, "for i in two(5)", 1992), api.OK},
 		{good, writes(t, "for i in two(5)", 1993), api.ErrLarge},
+		{good, writes(t, "for (i, j) in two(5)", 1992), api.OK},
+		{good, writes(t, "for (i, j) in two(5)", 1993), api.ErrLarge},
 		{good, writes(t, "for i in all(1, 5)", 3990), api.ErrArgument},
 		{good, writes(t, "for i in two(5, 5)", 3990), api.ErrCount},
 		{good, writes(t, "for i in all(x, 5)", 3990), api.OK},
@@ -176,6 +203,8 @@ func TestLoopLarge(t *testing.T) {
 		{"iter it(n: sync): int { yield 1; yield 2; }", "for i in it(n)", 1994, 4000},
 		{"iter it(n: int): int { yield 1; }", "for i in it(-(-1))", 3990, 4000},
 		{"iter it(n: int): int { yield 1; }", "for i in it(-(-1))", 3991, 0},
+		{"iter it(): int { yield 1; yield 2; }", "for (i, j) in it()", 1994, 4000},
+		{"iter it(): int { yield 1; yield 2; }", "for (i, j) in it()", 1995, 0},
 	} {
 		p := program(t, c.items+" proc main() { }")
 		n, e := inline.Loop(p, writes(t, c.head, c.numbers), 1)

@@ -159,6 +159,9 @@ func TestProgramErrors(t *testing.T) {
 		{"proc f() { }", check.ErrMain},
 		{"proc main() { var a__i = 1; x = 1; }", api.ErrMissing},
 		{self + "proc main() { x = 1; }", api.ErrMissing},
+		// a loop over an iterator with two names
+		{two + "proc main() { for (i, j) in two(1) { } }", api.ErrType},
+		{two + "iter more(): int { for (i, j) in two(1) { yield i; } } proc main() { var a__i = 1; }", api.ErrType},
 		// names with a mark
 		{"var a__i = 1; proc main() { }", inline.ErrNames},
 		{"var __l: int; proc main() { }", inline.ErrNames},
@@ -283,6 +286,7 @@ func TestYields(t *testing.T) {
 		{self, "d", 0, api.ErrMissing},
 		{"iter a(): int { var x__i = 1; yield x__i; } proc main() { }", "a", 1, api.OK},
 		{doubling(99-2) + "proc main() { }", "a97", 0, api.OK},
+		{two + "iter more(): int { for (i, j) in two(1) { yield i; } } proc main() { }", "two", 0, api.ErrType},
 	} {
 		if n, e := inline.Yields(program(t, c.items), c.name); n != c.want || e != c.e {
 			t.Errorf("%s: Yields(%s) = %d, %v, want %d, %v", c.items, c.name, n, e, c.want, c.e)
